@@ -86,7 +86,7 @@ def plus(many, one, two):
     need_many(many)
     need_polynomial(many, one)
     need_polynomial(many, two)
-    return _told(_in_order(_collected(one + two)))
+    return told_sum(one + two)
 
 
 def minus(many, one, two):
@@ -95,7 +95,7 @@ def minus(many, one, two):
     need_polynomial(many, one)
     need_polynomial(many, two)
     turned = tuple([(powers, negative(fraction)) for powers, fraction in two])
-    return _told(_in_order(_collected(one + turned)))
+    return told_sum(one + turned)
 
 
 def times(many, one, two):
@@ -112,7 +112,12 @@ def times(many, one, two):
         for others, factor in two:
             place = tuple([power + other for power, other in zip(powers, others)])
             kept[place] = added(kept.get(place, NOUGHT), multiplied(fraction, factor))
-    return _told(_in_order(kept))
+    return told_terms(_in_order(kept))
+
+
+def told_sum(terms):
+    """The polynomial of TERMS in any order, those with the same powers added up, if it is within bounds."""
+    return told_terms(_in_order(_collected(terms)))
 
 
 def _collected(terms):
@@ -134,8 +139,10 @@ def degree_of(one):
     return sum(one[0][0]) if one else 0
 
 
-def _told(terms):
-    """TERMS, if they are not too many for a polynomial."""
+def told_terms(terms):
+    """TERMS, which are in order, if they are not beyond the bounds of a polynomial."""
+    if degree_of(terms) > MOST_DEGREE:
+        raise TooMany(degree_of(terms))
     if len(terms) > MOST_TERMS:
         raise TooMany(len(terms))
     return terms

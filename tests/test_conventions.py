@@ -5,11 +5,15 @@ import importlib
 import inspect
 import unittest
 
+from hiddenrates.division import quotient
 from hiddenrates.nets import are_alike, is_net, kept_sums, looks_in, parting, seen_in, table_of
 from hiddenrates.polynomials import is_fraction, is_polynomial, minus, number, plus, renamed, slope, times
 from hiddenrates.polynomials import unknown_of, worth
+from hiddenrates.series import change, course, is_series, series_times, worth_along
+from hiddenrates.tables import cofactors, determinant, is_table, own_rule, table_times, turned
 from hiddenrates.texts import net_of, text_of
-from samples import HALF, ONE, PAIR, THIRD
+from hiddenrates.writings import read_polynomial, show_polynomial
+from samples import HALF, NIL, ONE, PAIR, THIRD
 
 INTERFACE = {
     "nets": {
@@ -34,10 +38,29 @@ INTERFACE = {
         "worth": ["many", "one", "assignment"],
         "renamed": ["many", "one", "order"],
     },
+    "division": {"quotient": ["many", "one", "two"]},
+    "writings": {"show_polynomial": ["many", "one"], "read_polynomial": ["many", "writing"]},
+    "tables": {
+        "is_table": ["many", "value"],
+        "table_times": ["many", "table", "other"],
+        "turned": ["many", "table"],
+        "determinant": ["many", "table"],
+        "cofactors": ["many", "table"],
+        "own_rule": ["many", "table"],
+    },
+    "series": {
+        "is_series": ["value"],
+        "series_times": ["degree", "series", "other"],
+        "worth_along": ["many", "one", "degree", "row"],
+        "change": ["many", "field", "one"],
+        "course": ["many", "field", "assignment", "degree"],
+    },
 }
 
 SQUARES = (((2, 0), (1, 1)), ((0, 1), (-1, 2)))
 TABLE = ((HALF, THIRD), (HALF, (1, 6)))
+X, Y, UNIT, LESS = (((1, 0), ONE),), (((0, 1), ONE),), (((0, 0), ONE),), (((0, 0), (-1, 1)),)
+ROOT = ((X, UNIT), (Y, X))
 CALLS = (
     (is_net, (PAIR,), True),
     (table_of, (PAIR, (HALF, THIRD)), TABLE),
@@ -58,6 +81,20 @@ CALLS = (
     (slope, (2, SQUARES, 0), (((1, 0), (2, 1)),)),
     (worth, (2, SQUARES, (HALF, (2, 1))), (-3, 4)),
     (renamed, (2, SQUARES, (1, 0)), (((0, 2), ONE), ((1, 0), (-1, 2)))),
+    (quotient, (2, SQUARES, (((0, 0), (-2, 1)),)), (((2, 0), (-1, 2)), ((0, 1), (1, 4)))),
+    (show_polynomial, (2, SQUARES), "x0^2 - 1/2 x1"),
+    (read_polynomial, (2, " x0 x0 - 2/4 x1 "), SQUARES),
+    (is_table, (2, ROOT), True),
+    (table_times, (2, ((X, UNIT),), ((X,), ((((0, 1), (-1, 2)),),))), ((SQUARES,),)),
+    (turned, (2, ROOT), ((X, Y), (UNIT, X))),
+    (determinant, (2, ROOT), (((2, 0), ONE), ((0, 1), (-1, 1)))),
+    (cofactors, (2, ROOT), ((X, LESS), ((((0, 1), (-1, 1)),), X))),
+    (own_rule, (2, ROOT), ((((2, 0), ONE), ((0, 1), (-1, 1))), (((1, 0), (-2, 1)),))),
+    (is_series, ((HALF, NIL),), True),
+    (series_times, (1, (HALF, ONE), (THIRD, NIL)), ((1, 6), THIRD)),
+    (worth_along, (2, SQUARES, 1, ((ONE, ONE), (ONE, (-1, 1)))), (HALF, (5, 2))),
+    (change, (2, (X, UNIT), SQUARES), (((2, 0), (2, 1)), ((0, 0), (-1, 2)))),
+    (course, (2, (X, UNIT), (ONE, HALF), 2), ((ONE, ONE, HALF), (HALF, ONE, NIL))),
 )
 
 
@@ -104,6 +141,8 @@ class Conventions(unittest.TestCase):
         before = copy.deepcopy(listed)
         self.assertFalse(is_net(listed))
         self.assertFalse(is_polynomial(1, listed))
+        self.assertFalse(is_table(1, listed))
+        self.assertFalse(is_series(listed))
         self.assertEqual(listed, before)
 
     def test_what_was_returned_may_be_passed(self):
@@ -114,6 +153,16 @@ class Conventions(unittest.TestCase):
         self.assertEqual(looks_in(net, (HALF, table[0][1]), 2), looks_in(PAIR, (HALF, THIRD), 2))
         share = worth(2, SQUARES, table[1])
         self.assertEqual(number(2, share), (((0, 0), (1, 6)),))
+        told = read_polynomial(2, show_polynomial(2, quotient(2, times(2, SQUARES, X), X)))
+        self.assertEqual(told, SQUARES)
+        table = table_times(2, turned(2, ROOT), cofactors(2, ROOT))
+        self.assertIs(is_table(2, (own_rule(2, table),)), True)
+        field = table[0]
+        row = course(2, field, (HALF, THIRD), 2)
+        product = series_times(2, row[0], row[1])
+        self.assertIs(is_series(product), True)
+        self.assertEqual(worth_along(2, times(2, X, Y), 2, row), product)
+        self.assertEqual(product[1], worth(2, change(2, field, times(2, X, Y)), (HALF, THIRD)))
 
     def test_fractions_beyond_the_told_ones_are_told_by_runs(self):
         told = seen_in((1, 0, ((0, None, (1, 999)),), (0,), (0,)), (), ((ONE,),) + (((0, 1),),) * 29)

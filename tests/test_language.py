@@ -8,7 +8,11 @@ import unittest
 ROOT = pathlib.Path(__file__).resolve().parent.parent
 PACKAGE = ROOT / "hiddenrates"
 FILES = sorted(PACKAGE.glob("**/*.py"))
-FROM_LIBRARY = {"math": {"gcd", "lcm", "isqrt", "comb", "perm", "factorial"}}
+FROM_LIBRARY = {
+    "math": {"gcd", "lcm", "isqrt", "comb", "perm", "factorial"},
+    "heapq": {"heappush", "heappop", "heapify", "heapreplace", "heappushpop"},
+    "itertools": {"product", "combinations", "permutations"},
+}
 BUILTINS = set(
     "len range enumerate zip min max sum abs sorted reversed int str bool list tuple dict set isinstance ord repr "
     "any all divmod map type Exception ValueError TypeError KeyError IndexError LookupError".split()
@@ -97,6 +101,22 @@ class Language(unittest.TestCase):
                         package, _, module = node.module.partition(".")
                         self.assertEqual(package, "hiddenrates")
                         self.assertIn(alias.name, defined[module])
+
+    def test_what_is_imported_from_the_library_is_called_alone(self):
+        for path in FILES:
+            nodes = list(ast.walk(tree_of(path)))
+            names = {a.name for node in imports_of(path) if node.module in FROM_LIBRARY for a in node.names}
+            calls = [node for node in nodes if isinstance(node, ast.Call) and called(node) in names]
+            heads = [node.func for node in calls]
+            for node in nodes:
+                if isinstance(node, ast.Name) and node.id in names:
+                    self.assertIn(node, heads)
+            # Products are iterated at once, by a loop or a comprehension.
+            gone_through = [node.iter for node in nodes if isinstance(node, (ast.For, ast.comprehension))]
+            for node in calls:
+                self.assertEqual(node.keywords, [])
+                if called(node) in FROM_LIBRARY["itertools"]:
+                    self.assertIn(node, gone_through)
 
     def names_of(self, path):
         """What the file itself defines."""

@@ -10,35 +10,8 @@ from hiddenrates.errors import TooMany
 from hiddenrates.polynomials import is_fraction, is_polynomial, minus, number, plus, renamed, slope, times
 from hiddenrates.polynomials import unknown_of, worth
 from samples import HALF, NIL, ONE, THINGS, THIRD, Prickly, Told, fraction, nested, pair
-
-X, Y = (((1, 0), ONE),), (((0, 1), ONE),)
-SQUARES = (((2, 0), ONE), ((0, 1), (-1, 2)))
-
-
-def as_dict(one):
-    """The fractions by the powers, in Python's own fractions."""
-    return {powers: fraction(number) for powers, number in one}
-
-
-def as_terms(kept):
-    """The terms in order."""
-    order = sorted(kept, key=lambda powers: (sum(powers), powers), reverse=True)
-    return tuple((powers, pair(kept[powers])) for powers in order if kept[powers] != 0)
-
-
-def some_fraction(source):
-    return Fraction(source.choice((-5, -2, -1, 0, 1, 2, 3, 7)), source.choice((1, 1, 2, 3, 10)))
-
-
-def some_polynomial(source, many, degree=3, terms=6):
-    kept = {}
-    for _ in range(source.randrange(terms)):
-        powers = [0] * many
-        if many:
-            for _ in range(source.randrange(degree + 1)):
-                powers[source.randrange(many)] += 1
-        kept[tuple(powers)] = some_fraction(source)
-    return as_terms(kept)
+from terms import SQUARES, WRONG_MANY, X, Y, as_dict, as_terms, product_of, some_fraction, some_polynomial
+from terms import with_terms, wrong_at
 
 
 def some_pairs(seed, count):
@@ -46,17 +19,6 @@ def some_pairs(seed, count):
     for _ in range(count):
         many = source.randrange(5)
         yield source, many, some_polynomial(source, many), some_polynomial(source, many)
-
-
-def all_powers(many, degree):
-    return [powers for powers in itertools.product(range(degree + 1), repeat=many) if sum(powers) <= degree]
-
-
-def with_terms(many, count, degree=40):
-    """A polynomial of just as many terms, of a degree up to DEGREE."""
-    powers = sorted(all_powers(many, degree), key=lambda powers: (sum(powers), powers))
-    assert len(powers) >= count
-    return as_terms({each: Fraction(1) for each in powers[:count]})
 
 
 class Examples(unittest.TestCase):
@@ -195,29 +157,6 @@ class IsPolynomial(Told):
             self.raises(InvalidNumber, "given", many, is_polynomial, value=Prickly(), many=many)
 
 
-WRONG_MANY = tuple((0, value, InvalidNumber, "given", value) for value in (-1, 5, None, True, False, "2", (2,), [2]))
-# None of these is a polynomial in 2 unknowns.
-NO_POLYNOMIALS = (
-    None,
-    0,
-    [],
-    list(X),
-    X + X,
-    Y + X,
-    (((1,), ONE),),
-    (((1, 0, 0), ONE),),
-    (((1, 0), NIL),),
-    (((1, 0), (2, 4)),),
-    (((41, 0), ONE),),
-    with_terms(2, 601),
-    Prickly(),
-)
-
-
-def wrong_at(place):
-    return tuple((place, value, InvalidPolynomial, "given", value) for value in NO_POLYNOMIALS)
-
-
 class Simple(Told):
     def test_number(self):
         self.assertEqual(number(0, (-7, 3)), (((), (-7, 3)),))
@@ -322,13 +261,8 @@ class Products(Told):
 
     def test_by_pythons_fractions(self):
         for source, many, one, two in some_pairs(22, 200):
-            kept = {}
-            for powers, factor in as_dict(one).items():
-                for others, other in as_dict(two).items():
-                    place = tuple(map(sum, zip(powers, others)))
-                    kept[place] = kept.get(place, 0) + factor * other
             told = times(many, one, two)
-            self.assertEqual(told, as_terms(kept))
+            self.assertEqual(told, as_terms(product_of(as_dict(one), as_dict(two))))
             self.assertEqual(times(many, two, one), told)
             self.assertEqual(told == (), one == () or two == ())
             self.assertIs(is_polynomial(many, told), True)
