@@ -200,13 +200,13 @@ def renamed(many, one, order):
     """The polynomial ONE with the unknown ORDER[J] in the place of each unknown J."""
     need_many(many)
     need_polynomial(many, one)
-    if not _is_order(many, order):
+    if not is_order(many, order):
         raise InvalidOrder(order)
     return _in_order({_moved(powers, order): fraction for powers, fraction in one})
 
 
-def _is_order(many, order):
-    """Whether ORDER is a tuple in which each index below MANY stands once."""
+def is_order(many, order):
+    """Whether ORDER, whatever it is, is a tuple in which each index below MANY stands once."""
     if type(order) is not tuple or not all(is_whole(index) for index in order):
         return False
     return sorted(order) == list(range(many))

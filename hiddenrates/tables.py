@@ -6,14 +6,13 @@ from hiddenrates.errors import InvalidTable
 from hiddenrates.polynomials import is_polynomial, need_many
 from hiddenrates.ratios import UNIT, negative
 from hiddenrates.wholes import (
-    add_product,
+    minor_along,
     place_of,
     powers_at,
     scale_of,
     sum_of_products,
     told_from,
     whole_of,
-    without_noughts,
 )
 
 MOST_ROWS = 5
@@ -126,15 +125,5 @@ def _whole_determinant(rows):
         scale = scale_of(rows[size - 1])
         row = [whole_of(one, scale) for one in rows[size - 1]]
         product = product * scale
-        minors = {columns: _minor(row, minors, columns) for columns in combinations(range(len(rows)), size)}
+        minors = {columns: minor_along(row, minors, columns) for columns in combinations(range(len(rows)), size)}
     return (minors[tuple(range(len(rows)))], product)
-
-
-def _minor(row, minors, columns):
-    """The minor in COLUMNS of the rows up to ROW, by the MINORS of those ahead of it."""
-    kept = {}
-    sign = 1
-    for index in reversed(range(len(columns))):
-        add_product(kept, row[columns[index]], minors[columns[:index] + columns[index + 1:]], sign)
-        sign = -sign
-    return without_noughts(kept)

@@ -1,6 +1,6 @@
 """Sums of products of unknowns with whole numbers ahead, without bounds on their degree and their terms.
 
-Quotients, tables and changes are worked out in them: on the way there may be more than a polynomial holds,
+Quotients, tables, changes and looks are worked out in them: on the way there may be more than a polynomial holds,
 and it may fall away again. Each is a dict of whole numbers by their places; a place stands for powers.
 """
 
@@ -66,7 +66,34 @@ def told_from(many, kept, factor):
 def sum_of_products(many, row, other):
     """The sum of the products of two rows of as many polynomials, entry by entry, if it is within bounds."""
     scale, scale_beside = scale_of(row), scale_of(other)
+    kept = row_along([whole_of(one, scale) for one in row], [whole_of(two, scale_beside) for two in other])
+    return told_from(many, kept, (1, scale * scale_beside))
+
+
+def row_along(row, other):
+    """The sum of the products of two rows of as many whole ones, entry by entry."""
     kept = {}
     for one, two in zip(row, other):
-        add_product(kept, whole_of(one, scale), whole_of(two, scale_beside), 1)
-    return told_from(many, kept, (1, scale * scale_beside))
+        add_product(kept, one, two, 1)
+    return without_noughts(kept)
+
+
+def minor_along(row, minors, columns):
+    """The minor in COLUMNS of some rows of whole ones and of ROW behind them, by the MINORS of those ahead."""
+    kept = {}
+    sign = 1
+    for index in reversed(range(len(columns))):
+        add_product(kept, row[columns[index]], minors[columns[:index] + columns[index + 1:]], sign)
+        sign = -sign
+    return without_noughts(kept)
+
+
+def slopes_along(many, kept):
+    """The list of the slopes of KEPT by each of MANY unknowns."""
+    slopes = [{} for _ in range(many)]
+    steps = [place_of([1 if index == unknown else 0 for index in range(many)]) for unknown in range(many)]
+    for place, whole in kept.items():
+        for unknown, power in enumerate(powers_at(many, place)):
+            if power > 0:
+                slopes[unknown][place - steps[unknown]] = whole * power
+    return slopes

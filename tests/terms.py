@@ -40,6 +40,22 @@ def product_of(one, two):
     return kept
 
 
+def is_odd(order):
+    return sum(one > two for one, two in itertools.combinations(order, 2)) % 2 == 1
+
+
+def by_orders(table):
+    """The determinant as the sum over all orders of the columns, as a dict without bounds."""
+    many = next((len(one[0][0]) for row in table for one in row if one), 0)
+    total = {}
+    for order in itertools.permutations(range(len(table))):
+        product = {(0,) * many: Fraction(-1 if is_odd(order) else 1)}
+        for row, column in zip(table, order):
+            product = product_of(product, as_dict(row[column]))
+        total = sum_of(total, product)
+    return total
+
+
 def some_fraction(source):
     return Fraction(source.choice((-5, -2, -1, 0, 1, 2, 3, 7)), source.choice((1, 1, 2, 3, 10)))
 

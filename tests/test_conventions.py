@@ -5,14 +5,19 @@ import importlib
 import inspect
 import unittest
 
+from hiddenrates.choices import fewest, shows_more, wider
 from hiddenrates.division import quotient
+from hiddenrates.knowledge import columns_of, fields_of, knowledge, minor_of, taken_looks, unknowns_known
+from hiddenrates.looks import look_polynomial, looks_of, slopes_of
 from hiddenrates.nets import are_alike, is_net, kept_sums, looks_in, parting, seen_in, table_of
 from hiddenrates.polynomials import is_fraction, is_polynomial, minus, number, plus, renamed, slope, times
 from hiddenrates.polynomials import unknown_of, worth
+from hiddenrates.renamings import led, led_polynomial, renamings
 from hiddenrates.series import change, course, is_series, series_times, worth_along
 from hiddenrates.tables import cofactors, determinant, is_table, own_rule, table_times, turned
 from hiddenrates.texts import net_of, text_of
 from hiddenrates.writings import read_polynomial, show_polynomial
+from generic import MUG, TWINS
 from samples import HALF, NIL, ONE, PAIR, THIRD
 
 INTERFACE = {
@@ -55,12 +60,32 @@ INTERFACE = {
         "change": ["many", "field", "one"],
         "course": ["many", "field", "assignment", "degree"],
     },
+    "looks": {"looks_of": ["net"], "look_polynomial": ["net", "look"], "slopes_of": ["net", "polynomial"]},
+    "knowledge": {
+        "taken_looks": ["net"],
+        "columns_of": ["net"],
+        "minor_of": ["net"],
+        "fields_of": ["net"],
+        "knowledge": ["net", "polynomial"],
+        "unknowns_known": ["net"],
+    },
+    "choices": {
+        "shows_more": ["net", "other"],
+        "wider": ["net", "kind", "choice"],
+        "fewest": ["net", "polynomial", "kind"],
+    },
+    "renamings": {
+        "renamings": ["net"],
+        "led": ["net", "renaming", "assignment"],
+        "led_polynomial": ["net", "renaming", "polynomial"],
+    },
 }
 
 SQUARES = (((2, 0), (1, 1)), ((0, 1), (-1, 2)))
 TABLE = ((HALF, THIRD), (HALF, (1, 6)))
 X, Y, UNIT, LESS = (((1, 0), ONE),), (((0, 1), ONE),), (((0, 0), ONE),), (((0, 0), (-1, 1)),)
 ROOT = ((X, UNIT), (Y, X))
+SWAP = ((0, 2, 1), (1, 0))
 CALLS = (
     (is_net, (PAIR,), True),
     (table_of, (PAIR, (HALF, THIRD)), TABLE),
@@ -95,6 +120,21 @@ CALLS = (
     (worth_along, (2, SQUARES, 1, ((ONE, ONE), (ONE, (-1, 1)))), (HALF, (5, 2))),
     (change, (2, (X, UNIT), SQUARES), (((2, 0), (2, 1)), ((0, 0), (-1, 2)))),
     (course, (2, (X, UNIT), (ONE, HALF), 2), ((ONE, ONE, HALF), (HALF, ONE, NIL))),
+    (looks_of, (MUG,), ((0, 0, 0), (1, 0, 0), (2, 0, 0), (3, 0, 0))),
+    (look_polynomial, (MUG, (1, 0, 0)), (((1, 0), (-1, 1)), ((0, 1), (-1, 1)), ((0, 0), ONE))),
+    (slopes_of, (MUG, SQUARES), ((((1, 0), (2, 1)),), (((0, 0), (-1, 2)),))),
+    (taken_looks, (MUG,), ((1, 0, 0),)),
+    (columns_of, (MUG,), (0,)),
+    (minor_of, (MUG,), LESS),
+    (fields_of, (MUG,), ((UNIT, LESS),)),
+    (knowledge, (MUG, X), ("free", (UNIT, LESS))),
+    (unknowns_known, (PAIR,), (0, 1)),
+    (shows_more, (MUG, MUG), True),
+    (wider, (MUG, "seen", (1,)), MUG[:4] + ((0, 1),)),
+    (fewest, (MUG, X, "seen"), (1,)),
+    (renamings, (TWINS,), (((0, 1, 2), (0, 1)), SWAP)),
+    (led, (TWINS, SWAP, (HALF, THIRD)), (THIRD, HALF)),
+    (led_polynomial, (TWINS, SWAP, SQUARES), (((0, 2), ONE), ((1, 0), (-1, 2)))),
 )
 
 
@@ -163,6 +203,17 @@ class Conventions(unittest.TestCase):
         self.assertIs(is_series(product), True)
         self.assertEqual(worth_along(2, times(2, X, Y), 2, row), product)
         self.assertEqual(product[1], worth(2, change(2, field, times(2, X, Y)), (HALF, THIRD)))
+
+    def test_what_knowledge_returned_may_be_passed(self):
+        known = knowledge(PAIR, look_polynomial(PAIR, taken_looks(PAIR)[1]))
+        self.assertEqual(times(2, known[1], known[2][1]), ())
+        field = knowledge(MUG, X)[1]
+        self.assertEqual(change(2, field, look_polynomial(MUG, looks_of(MUG)[3])), ())
+        more = wider(MUG, "seen", fewest(MUG, X, "seen"))
+        self.assertEqual(knowledge(more, X)[0], "known")
+        for one in renamings(TWINS):
+            self.assertEqual(led(TWINS, one, led(TWINS, one, (HALF, THIRD))), (HALF, THIRD))
+            self.assertEqual(led_polynomial(TWINS, one, led_polynomial(TWINS, one, SQUARES)), SQUARES)
 
     def test_fractions_beyond_the_told_ones_are_told_by_runs(self):
         told = seen_in((1, 0, ((0, None, (1, 999)),), (0,), (0,)), (), ((ONE,),) + (((0, 1),),) * 29)

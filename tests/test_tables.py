@@ -9,8 +9,8 @@ from hiddenrates.errors import InvalidTable, TooMany
 from hiddenrates.polynomials import is_polynomial, minus, number, plus, times, unknown_of
 from hiddenrates.tables import cofactors, determinant, is_table, own_rule, table_times, turned
 from samples import HALF, ONE, THINGS, Prickly, Told
-from terms import NO_POLYNOMIALS, SQUARES, WRONG_MANY, X, Y, as_dict, as_terms, box, power, product_of
-from terms import some_polynomial, sum_of, with_terms
+from terms import NO_POLYNOMIALS, SQUARES, WRONG_MANY, X, Y, as_dict, as_terms, box, by_orders, is_odd, power
+from terms import product_of, some_polynomial, sum_of, with_terms
 
 UNIT = power(0, 0)
 ROOT = ((X, UNIT), (Y, X))
@@ -31,22 +31,6 @@ def diagonal(*polynomials):
 
 def unit_table(many, size):
     return diagonal(*[number(many, ONE)] * size)
-
-
-def is_odd(order):
-    return sum(one > two for one, two in itertools.combinations(order, 2)) % 2 == 1
-
-
-def by_orders(table):
-    """The determinant as the sum over all orders of the columns, as a dict without bounds."""
-    many = next((len(one[0][0]) for row in table for one in row if one), 0)
-    total = {}
-    for order in itertools.permutations(range(len(table))):
-        product = {(0,) * many: Fraction(-1 if is_odd(order) else 1)}
-        for row, column in zip(table, order):
-            product = product_of(product, as_dict(row[column]))
-        total = sum_of(total, product)
-    return total
 
 
 def scaled(many, factor, table):

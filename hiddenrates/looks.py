@@ -1,0 +1,114 @@
+"""Looks: what is seen of 1 that was filled in some beats ago, as polynomials in the unknown shares."""
+
+from math import lcm
+
+from hiddenrates.errors import InvalidLook, InvalidPolynomial
+from hiddenrates.nets import need_net
+from hiddenrates.polynomials import degree_of, is_polynomial, slope
+from hiddenrates.ratios import is_within
+from hiddenrates.wholes import place_of, row_along, told_from
+
+MOST_ASKED = 4
+
+
+def looks_of(net):
+    """The tuple of the looks (K, S, F) of NET, in ascending order."""
+    need_net(net)
+    many, _, _, filled, seen = net
+    return tuple([(power, tank, source) for power in range(2 * many) for tank in seen for source in filled])
+
+
+def is_look(net, value):
+    """Whether VALUE, whatever it is, is a look of NET."""
+    if type(value) is not tuple or len(value) != 3:
+        return False
+    many = net[0]
+    bounds = (2 * many - 1, many - 1, many - 1)
+    if not all([is_within(part, 0, most) for part, most in zip(value, bounds)]):
+        return False
+    return value[1] in net[4] and value[2] in net[3]
+
+
+def need_look(net, look):
+    """Refuse what is no look of NET."""
+    if not is_look(net, look):
+        raise InvalidLook(look)
+
+
+def is_asked(net, value):
+    """Whether VALUE, whatever it is, is a polynomial in the unknowns of NET of a degree that may be asked for."""
+    return is_polynomial(net[1], value) and degree_of(value) <= MOST_ASKED
+
+
+def need_asked(net, polynomial):
+    """Refuse what is no polynomial in the unknowns of NET of a degree that may be asked for."""
+    if not is_asked(net, polynomial):
+        raise InvalidPolynomial(polynomial)
+
+
+def look_polynomial(net, look):
+    """The polynomial of LOOK: the entry of the power K of the table of NET in the row S and the column F."""
+    need_net(net)
+    need_look(net, look)
+    power, tank, source = look
+    scale = _scale_of(net)
+    columns = _columns_from(_whole_table(net, scale), source, power)
+    factor = 1
+    for _ in range(power):
+        factor = factor * scale
+    return told_from(net[1], columns[power][tank], (1, factor))
+
+
+def whole_looks(net):
+    """The polynomial of each look of NET, in order, each one taken times a number that makes it whole."""
+    table = _whole_table(net, _scale_of(net))
+    columns = {source: _columns_from(table, source, 2 * net[0] - 1) for source in net[3]}
+    return [columns[source][power][tank] for power, tank, source in looks_of(net)]
+
+
+def _scale_of(net):
+    """The least whole number above 0 that makes the told shares of NET whole."""
+    scale = 1
+    for _, _, share in net[2]:
+        if share[0] != "x":
+            scale = lcm(scale, share[1])
+    return scale
+
+
+def _whole_table(net, scale):
+    """The table of NET in its unknowns, taken times SCALE, which makes its told shares whole."""
+    many = net[0]
+    table = [[{0: scale} if row == column else {} for column in range(many)] for row in range(many)]
+    for start, end, share in net[2]:
+        place, size = _whole_share(net[1], share, scale)
+        _add(table[start][start], place, -size)
+        if end is not None:
+            _add(table[end][start], place, size)
+    return table
+
+
+def _whole_share(unknowns, share, scale):
+    """The place of SHARE, and how often it is there, taken times SCALE."""
+    if share[0] == "x":
+        return (place_of([1 if index == share[1] else 0 for index in range(unknowns)]), scale)
+    return (0, share[0] * (scale // share[1]))
+
+
+def _add(kept, place, size):
+    """Add SIZE to what is KEPT at PLACE."""
+    kept[place] = kept.get(place, 0) + size
+
+
+def _columns_from(table, source, most):
+    """The column of the tank SOURCE in the powers of TABLE from 0 up to MOST."""
+    columns = [[{0: 1} if tank == source else {} for tank in range(len(table))]]
+    for _ in range(most):
+        columns.append([row_along(row, columns[-1]) for row in table])
+    return columns
+
+
+def slopes_of(net, polynomial):
+    """The tuple of the slopes of POLYNOMIAL by each unknown of NET."""
+    need_net(net)
+    need_asked(net, polynomial)
+    return tuple([slope(net[1], polynomial, unknown) for unknown in range(net[1])])
