@@ -68,6 +68,13 @@ def choices_of(net, kind, count):
     return [choice for choice in combinations(tanks, count)]
 
 
+def lesser_choices(net, kind, count):
+    """All choices of one tank less than COUNT, of all tanks that are left if these are less; none for 0."""
+    if count == 0:
+        return []
+    return choices_of(net, kind, min(count - 1, len(left_of(net, kind))))
+
+
 def fewest(net, polynomial, kind):
     """The first of the choices with the least tanks by which POLYNOMIAL is known; None if there is none."""
     need_net(net)

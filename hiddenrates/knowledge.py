@@ -3,13 +3,13 @@
 from itertools import combinations
 
 from hiddenrates.errors import TooMany
-from hiddenrates.looks import look_polynomial, looks_of, need_asked, whole_looks
+from hiddenrates.looks import look_polynomials, looks_of, need_asked
 from hiddenrates.nets import need_net
 from hiddenrates.polynomials import degree_of, minus, number, slope
 from hiddenrates.ratios import UNIT
 from hiddenrates.series import change
 from hiddenrates.tables import determinant
-from hiddenrates.wholes import minor_along, slopes_along
+from hiddenrates.wholes import minor_along, scale_of, slopes_along, whole_of
 
 MOST_SUM = 12
 MOST_SUM_OF_FOUR = 8
@@ -24,30 +24,29 @@ def taken_looks(net):
 def columns_of(net):
     """The least tuple of unknowns in which the minor of the taken looks' slopes is not nought."""
     need_net(net)
-    return _taken_of(net)[1]
+    return _taken_of(net)[2]
 
 
 def minor_of(net):
     """The minor D of the taken looks' slopes in the columns."""
     need_net(net)
-    taken, columns = _taken_of(net)
-    return _minor(net[1], _rows_of(net, taken), columns)
+    _, rows, columns = _taken_of(net)
+    return _minor(net[1], rows, columns)
 
 
 def fields_of(net):
     """The fields of the unknowns that are none of the columns: they change no look."""
     need_net(net)
-    taken, columns = _taken_of(net)
-    return _fields(net[1], _rows_of(net, taken), columns)
+    _, rows, columns = _taken_of(net)
+    return _fields(net[1], rows, columns)
 
 
 def knowledge(net, polynomial):
     """("known", D, POLYNOMIALS) if the looks tell POLYNOMIAL, else ("free", FIELD) with what changes it alone."""
     need_net(net)
     need_asked(net, polynomial)
-    taken, columns = _taken_of(net)
+    taken, rows, columns = _taken_of(net)
     _need_sum(net[1], _sum_over(taken) + degree_of(polynomial))
-    rows = _rows_of(net, taken)
     for field in _fields(net[1], rows, columns):
         if change(net[1], field, polynomial) != ():
             return ("free", field)
@@ -63,18 +62,19 @@ def unknowns_known(net):
 
 
 def _taken_of(net):
-    """The taken looks of NET and their columns, if the sum over these looks is within its bound."""
+    """The taken looks of NET, their slopes and the columns, if the sum over these looks is within its bound."""
     many = net[1]
-    taken, columns, minors = [], (), {(): {0: 1}}
-    for look, kept in zip(looks_of(net), whole_looks(net)):
-        row = slopes_along(many, kept)
+    taken, rows, columns, minors = [], [], (), {(): {0: 1}}
+    for look, one in zip(looks_of(net), look_polynomials(net)):
+        row = slopes_along(many, whole_of(one, scale_of([one])))
         # Where a minor of the taken rows is not nought, those with one more column tell whether ROW hangs together.
         if any(minor_along(row, minors, wider) != {} for wider in _wider(many, columns)):
             taken.append(look)
+            rows.append(_slopes(many, one))
             minors = {each: minor_along(row, minors, each) for each in combinations(range(many), len(taken))}
             columns = min([each for each in minors if minors[each] != {}])
     _need_sum(many, _sum_over(taken))
-    return (tuple(taken), columns)
+    return (tuple(taken), rows, columns)
 
 
 def _wider(many, columns):
@@ -96,11 +96,6 @@ def _need_sum(many, total):
     """Refuse a sum of degrees that may lead to more terms than a polynomial in MANY unknowns holds."""
     if total > (MOST_SUM_OF_FOUR if many == 4 else MOST_SUM):
         raise TooMany(total)
-
-
-def _rows_of(net, taken):
-    """The slopes of each of the TAKEN looks."""
-    return [_slopes(net[1], look_polynomial(net, look)) for look in taken]
 
 
 def _slopes(many, one):

@@ -50,20 +50,24 @@ def look_polynomial(net, look):
     """The polynomial of LOOK: the entry of the power K of the table of NET in the row S and the column F."""
     need_net(net)
     need_look(net, look)
-    power, tank, source = look
+    return _polynomials(net, (look,))[0]
+
+
+def look_polynomials(net):
+    """The tuple of the polynomials of all looks of NET, in their order."""
+    return _polynomials(net, looks_of(net))
+
+
+def _polynomials(net, looks):
+    """The tuple of the polynomials of LOOKS, of which there is one at least."""
     scale = _scale_of(net)
-    columns = _columns_from(_whole_table(net, scale), source, power)
-    factor = 1
-    for _ in range(power):
-        factor = factor * scale
-    return told_from(net[1], columns[power][tank], (1, factor))
-
-
-def whole_looks(net):
-    """The polynomial of each look of NET, in order, each one taken times a number that makes it whole."""
-    table = _whole_table(net, _scale_of(net))
-    columns = {source: _columns_from(table, source, 2 * net[0] - 1) for source in net[3]}
-    return [columns[source][power][tank] for power, tank, source in looks_of(net)]
+    table = _whole_table(net, scale)
+    most = max([look[0] for look in looks])
+    columns = {source: _columns_from(table, source, most) for source in net[3]}
+    scales = [1]
+    for _ in range(most):
+        scales.append(scales[-1] * scale)
+    return tuple([told_from(net[1], columns[source][power][tank], (1, scales[power])) for power, tank, source in looks])
 
 
 def _scale_of(net):

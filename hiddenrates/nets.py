@@ -76,6 +76,18 @@ def need_assignment(net, assignment):
             raise InvalidAssignment(index)
 
 
+def is_assignment(net, value):
+    """Whether VALUE, whatever it is, is an assignment of NET."""
+    return type(value) is tuple and len(value) == net[1] and all(is_told(share) for share in value)
+
+
+def is_fillings(net, value):
+    """Whether VALUE, whatever it is, is a tuple of a filling of NET for each beat, of up to 30 beats."""
+    if type(value) is not tuple or len(value) > MOST_FILLINGS:
+        return False
+    return all(_is_filling(net, filling) for filling in value)
+
+
 def need_fillings(net, fillings):
     """Refuse what is no tuple of a filling of NET for each beat, of up to 30 beats."""
     if type(fillings) is not tuple or len(fillings) > MOST_FILLINGS:
@@ -163,6 +175,12 @@ def looks_in(net, assignment, many):
         looks.append(tuple([tuple([column[tank] for column in columns]) for tank in net[4]]))
         columns = [sent(table, column) for column in columns]
     return tuple(looks)
+
+
+def look_in(net, assignment, look):
+    """The one LOOK (K, S, F) of NET by ASSIGNMENT."""
+    power, tank, source = look
+    return looks_in(net, assignment, power + 1)[power][net[4].index(tank)][net[3].index(source)]
 
 
 def are_alike(net, one, other):

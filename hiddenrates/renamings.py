@@ -6,6 +6,9 @@ from hiddenrates.errors import InvalidRenaming
 from hiddenrates.looks import need_asked
 from hiddenrates.nets import need_assignment, need_net
 from hiddenrates.polynomials import is_order, renamed
+from hiddenrates.ratios import is_whole
+
+MOST_NAMES = 4
 
 
 def renamings(net):
@@ -38,6 +41,17 @@ def is_renaming(net, value):
     if type(value) is not tuple or len(value) != 2:
         return False
     return is_order(net[0], value[0]) and is_order(net[1], value[1]) and _keeps(net, value)
+
+
+def is_names(value):
+    """Whether VALUE, whatever it is, is a tuple of up to four whole numbers."""
+    return type(value) is tuple and len(value) <= MOST_NAMES and all(is_whole(name) for name in value)
+
+
+def need_names(names):
+    """Refuse what is no tuple of up to four whole numbers."""
+    if not is_names(names):
+        raise InvalidRenaming(names)
 
 
 def need_renaming(net, renaming):

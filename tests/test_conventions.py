@@ -5,8 +5,13 @@ import importlib
 import inspect
 import unittest
 
+from hiddenrates.certificates import certify_alike, certify_enough, certify_known, certify_needed, certify_rank
+from hiddenrates.certificates import certify_renaming, certify_runs
+from hiddenrates.checker import accepts
 from hiddenrates.choices import fewest, shows_more, wider
+from hiddenrates.console import fresh_console, said, told_all
 from hiddenrates.division import quotient
+from hiddenrates.joined import led_on, side_by_side
 from hiddenrates.knowledge import columns_of, fields_of, knowledge, minor_of, taken_looks, unknowns_known
 from hiddenrates.looks import look_polynomial, looks_of, slopes_of
 from hiddenrates.nets import are_alike, is_net, kept_sums, looks_in, parting, seen_in, table_of
@@ -79,6 +84,18 @@ INTERFACE = {
         "led": ["net", "renaming", "assignment"],
         "led_polynomial": ["net", "renaming", "polynomial"],
     },
+    "joined": {"side_by_side": ["net", "other"], "led_on": ["net", "pipe", "other", "tank"]},
+    "checker": {"accepts": ["claim", "paper"]},
+    "certificates": {
+        "certify_alike": ["net", "one", "other"],
+        "certify_runs": ["net", "one", "other", "fillings"],
+        "certify_known": ["net", "polynomial"],
+        "certify_rank": ["net"],
+        "certify_enough": ["net", "kind", "choice", "polynomial"],
+        "certify_needed": ["net", "kind", "polynomial"],
+        "certify_renaming": ["net", "tanks", "names"],
+    },
+    "console": {"fresh_console": [], "said": ["console", "line"], "told_all": ["console", "lines"]},
 }
 
 SQUARES = (((2, 0), (1, 1)), ((0, 1), (-1, 2)))
@@ -86,6 +103,8 @@ TABLE = ((HALF, THIRD), (HALF, (1, 6)))
 X, Y, UNIT, LESS = (((1, 0), ONE),), (((0, 1), ONE),), (((0, 0), ONE),), (((0, 0), (-1, 1)),)
 ROOT = ((X, UNIT), (Y, X))
 SWAP = ((0, 2, 1), (1, 0))
+SIP = (1, 0, ((0, None, HALF),), (0,), (0,))
+EMPTY = ((None, (), (), (), 0), ())
 CALLS = (
     (is_net, (PAIR,), True),
     (table_of, (PAIR, (HALF, THIRD)), TABLE),
@@ -135,6 +154,19 @@ CALLS = (
     (renamings, (TWINS,), (((0, 1, 2), (0, 1)), SWAP)),
     (led, (TWINS, SWAP, (HALF, THIRD)), (THIRD, HALF)),
     (led_polynomial, (TWINS, SWAP, SQUARES), (((0, 2), ONE), ((1, 0), (-1, 2)))),
+    (side_by_side, (SIP, SIP), (2, 0, ((0, None, HALF), (1, None, HALF)), (0, 1), (0, 1))),
+    (led_on, (SIP, 0, SIP, 0), (2, 0, ((0, 1, HALF), (1, None, HALF)), (0,), (0, 1))),
+    (accepts, (("free", MUG, X), (UNIT, LESS)), True),
+    (certify_alike, (MUG, (HALF, NIL), (NIL, HALF)), (("alike", MUG, (HALF, NIL), (NIL, HALF)), ())),
+    (certify_runs, (MUG, (HALF, NIL), (NIL, ONE), ()), (("runs alike", MUG, (HALF, NIL), (NIL, ONE), ()), ())),
+    (certify_known, (MUG, X), (("free", MUG, X), (UNIT, LESS))),
+    (certify_rank, (MUG,), (("rank", MUG, 1), (((1, 0, 0),), ((UNIT, LESS),), (NIL, NIL)))),
+    (certify_enough, (MUG, "filled", (), X), (("free", MUG, X), (UNIT, LESS))),
+    (certify_needed, (MUG, "filled", X), (("needed", MUG, "filled", 2, X), (((1,), (UNIT, LESS)),))),
+    (certify_renaming, (TWINS,) + SWAP, (("renaming", TWINS) + SWAP, ())),
+    (fresh_console, (), EMPTY),
+    (said, (EMPTY, "held"), (EMPTY, "no net yet")),
+    (told_all, (EMPTY, ("held", "x")), (EMPTY, ("no net yet", "not understood"))),
 )
 
 
@@ -167,7 +199,7 @@ class Conventions(unittest.TestCase):
             half = dict(list(named.items())[1:])
             for result in (function(*arguments), function(**named), function(**turned)):
                 self.assertEqual(kinds_of(result), kinds_of(told), function.__name__)
-            self.assertEqual(kinds_of(function(arguments[0], **half)), kinds_of(told))
+            self.assertEqual(kinds_of(function(*arguments[:1], **half)), kinds_of(told))
 
     def test_equal_calls_equal_results_and_arguments_left(self):
         for function, arguments, told in CALLS:

@@ -40,7 +40,6 @@ BARRED = (
     ast.YieldFrom,
     ast.NamedExpr,
     ast.AnnAssign,
-    ast.Try,
 )
 GOES_THROUGH = {"list", "tuple", "sorted", "sum", "min", "max", "any", "all", "join"}
 
@@ -156,11 +155,42 @@ class Language(unittest.TestCase):
                     self.assertEqual(len(node.targets), 1)
                     self.assertIsInstance(node.targets[0], ast.Name)
                     bound.append(node.targets[0].id)
-                    ast.literal_eval(node.value)
+                    self.plain(node.value, [name for name in bound if name in self.functions_of(path)])
                 else:
                     self.assertIsInstance(node, ast.Expr)
                     self.assertIsInstance(node.value, ast.Constant)
             self.assertEqual(len(bound), len(set(bound)), path.name)
+
+    def functions_of(self, path):
+        return [node.name for node in tree_of(path).body if isinstance(node, ast.FunctionDef)]
+
+    def plain(self, value, functions):
+        """A plain value, or a dict of functions that stand above it by their words."""
+        if isinstance(value, ast.Dict) and all(isinstance(each, ast.Name) for each in value.values):
+            self.assertLessEqual({each.id for each in value.values}, set(functions))
+            for key in value.keys:
+                self.assertIsInstance(ast.literal_eval(key), str)
+        else:
+            ast.literal_eval(value)
+
+    def test_functions_from_a_table_are_called_by_a_name(self):
+        for _, node in self.each(ast.Call):
+            self.assertIsInstance(node.func, (ast.Name, ast.Attribute))
+
+    def test_own_errors_alone_are_caught(self):
+        own = self.names_of(PACKAGE / "errors.py")
+        for path, node in self.each(ast.FunctionDef):
+            handlers = [part for part in ast.walk(node) if isinstance(part, ast.ExceptHandler)]
+            names = [part.name for part in handlers if part.name is not None]
+            self.assertEqual(len(names), len(set(names)))
+            for part in handlers:
+                self.assertIn(part.type.id, own)
+            used = [part for part in ast.walk(node) if isinstance(part, ast.Attribute)]
+            read = [part.value for part in used if part.attr in ("given", "index", "place")]
+            for part in ast.walk(node):
+                if isinstance(part, ast.Name) and part.id in names:
+                    self.assertIn(part, read)
+            self.assertEqual([part for part in ast.walk(node) if isinstance(part, ast.Try) and part.finalbody], [])
 
     def test_barred_statements_and_signs(self):
         self.assertEqual([(path.name, node.lineno) for path, node in self.each(*BARRED)], [])

@@ -4,14 +4,14 @@ import itertools
 import random
 import unittest
 
-from generic import APART, ASKED, FULL, MUG, TWINS, UNKNOWING, WRONG_NETS, some_nets, triples
+from generic import ASKED, MUG, TWINS, UNKNOWING, WRONG_NETS, some_nets
 from hiddenrates.errors import InvalidAssignment, InvalidNet, InvalidPolynomial, InvalidRenaming
 from hiddenrates.knowledge import knowledge
 from hiddenrates.looks import look_polynomial, looks_of
 from hiddenrates.nets import are_alike, looks_in
 from hiddenrates.polynomials import renamed, unknown_of, worth
 from hiddenrates.renamings import led, led_polynomial, renamings
-from samples import BARE, CHAIN, HALF, NIL, ONE, PAIR, RING, THINGS, THIRD, Prickly, Told, pair
+from samples import BARE, CHAIN, HALF, NIL, ONE, PAIR, THINGS, THIRD, Prickly, Told, pair
 from terms import X, Y, power, some_fraction, some_polynomial
 
 SWAP = ((0, 2, 1), (1, 0))
