@@ -37,7 +37,7 @@ def fraction_in(word):
     if len(word) > 2 * MOST_FIGURES + 2:
         return None
     fraction = fraction_from(word)
-    if fraction is None or not is_told(fraction) or fraction_word(fraction) != word:
+    if not is_told(fraction) or fraction_word(fraction) != word:
         return None
     return fraction
 

@@ -2,7 +2,6 @@
 
 from hiddenrates.choices import fewest, left_of, lesser_choices, need_kind, wider
 from hiddenrates.knowledge import fields_of, knowledge, minor_of, taken_looks
-from hiddenrates.looks import need_asked
 from hiddenrates.nets import need_assignment, need_fillings, need_net, parting, seen_in
 from hiddenrates.polynomials import told_sum
 from hiddenrates.ratios import multiplied
@@ -80,7 +79,6 @@ def certify_needed(net, kind, polynomial):
     """How many more tanks of KIND are needed at least; one more than are left if all of them are not enough."""
     need_net(net)
     need_kind(kind)
-    need_asked(net, polynomial)
     choice = fewest(net, polynomial, kind)
     count = len(left_of(net, kind)) + 1 if choice is None else len(choice)
     paper = [(lesser, _field_beside(net, kind, lesser, polynomial)) for lesser in lesser_choices(net, kind, count)]

@@ -6,7 +6,7 @@ from hiddenrates.errors import InvalidChoice, InvalidKind
 from hiddenrates.knowledge import knowledge
 from hiddenrates.looks import need_asked
 from hiddenrates.nets import need_net
-from hiddenrates.ratios import is_within
+from hiddenrates.ratios import is_whole
 
 SEEN = "seen"
 FILLED = "filled"
@@ -45,7 +45,7 @@ def need_kind(kind):
 
 def is_choice(net, kind, value):
     """Whether VALUE, whatever it is, is an ascending tuple of tanks of NET that are not yet of this KIND."""
-    if type(value) is not tuple or not all(is_within(tank, 0, net[0] - 1) for tank in value):
+    if type(value) is not tuple or not all(is_whole(tank) for tank in value):
         return False
     return value in choices_of(net, kind, len(value))
 

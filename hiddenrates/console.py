@@ -171,7 +171,8 @@ def _led_to(state, words, line):
     """The state that LINE leads to and the answer, None if it is not understood, where nothing is too many."""
     word = words[0]
     if word in WRITTEN:
-        writing, written = _writing_of(line), WRITTEN[word]
+        written = WRITTEN[word]
+        writing = _writing_of(line)
         return None if writing is None else written(state, writing)
     if word in CHANGES:
         change = CHANGES[word]

@@ -5,7 +5,7 @@ from math import lcm
 from hiddenrates.errors import InvalidLook, InvalidPolynomial
 from hiddenrates.nets import need_net
 from hiddenrates.polynomials import degree_of, is_polynomial, slope
-from hiddenrates.ratios import is_within
+from hiddenrates.ratios import is_whole, is_within
 from hiddenrates.wholes import place_of, row_along, told_from
 
 MOST_ASKED = 4
@@ -22,11 +22,11 @@ def is_look(net, value):
     """Whether VALUE, whatever it is, is a look of NET."""
     if type(value) is not tuple or len(value) != 3:
         return False
-    many = net[0]
-    bounds = (2 * many - 1, many - 1, many - 1)
-    if not all([is_within(part, 0, most) for part, most in zip(value, bounds)]):
+    power, tank, source = value
+    # True is equal to 1, but no number: the kind is asked ahead of the tanks.
+    if not is_within(power, 0, 2 * net[0] - 1) or not is_whole(tank) or not is_whole(source):
         return False
-    return value[1] in net[4] and value[2] in net[3]
+    return tank in net[4] and source in net[3]
 
 
 def need_look(net, look):

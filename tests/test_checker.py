@@ -1,5 +1,6 @@
 """Point 30, with 4 and 6: which papers the checker accepts for which claims."""
 
+import functools
 import itertools
 import random
 import unittest
@@ -22,7 +23,7 @@ from terms import X, Y, as_terms, power, some_fraction, some_polynomial, with_te
 SWAP = ((0, 2, 1), (1, 0))
 SHARES, OTHERS = (HALF, THIRD), (HALF, HALF)
 FIELD = (number(2, ONE), number(2, (-1, 1)))
-NETS = [net for net in ASKED + tuple(some_nets(121, 25))]
+NETS = ASKED + tuple(some_nets(121, 25))
 
 
 def some_shares(source, net):
@@ -49,10 +50,10 @@ def certificates_of(source, net):
             yield certify_needed(net, kind, polynomial)
 
 
-def all_certificates(seed=122, nets=NETS):
-    source = random.Random(seed)
-    for net in nets:
-        yield from certificates_of(source, net)
+@functools.cache
+def all_certificates(nets=NETS):
+    source = random.Random(122)
+    return [each for net in nets for each in certificates_of(source, net)]
 
 
 def spoiled_kinds(value):
@@ -146,7 +147,7 @@ class Accepts(Judged):
         )
 
     def test_things_of_any_kind(self):
-        right = [(claim, paper) for claim, paper in all_certificates(123, (MUG, PAIR))]
+        right = [(claim, paper) for claim, paper in all_certificates((MUG, PAIR))]
         for thing in THINGS:
             self.no(thing, thing, (), None)
             for claim, paper in right:
@@ -158,17 +159,17 @@ class Accepts(Judged):
             self.no(value, (), None, (), Prickly())
 
     def test_papers_of_other_kinds(self):
-        for claim, paper in all_certificates(124, (MUG, PAIR, CHAIN, TWINS, GLASS, BARE, APART)):
+        for claim, paper in all_certificates((MUG, PAIR, CHAIN, TWINS, GLASS, BARE, APART)):
             for other in spoiled_kinds(paper):
                 self.no(claim, other)
 
     def test_claims_that_are_none(self):
-        for claim, paper in all_certificates(125, (MUG, PAIR, TWINS, RING)):
+        for claim, paper in all_certificates((MUG, PAIR, TWINS, RING)):
             for other in spoiled_kinds(claim):
                 self.no(other, paper)
 
     def test_one_less_and_one_more(self):
-        for claim, paper in all_certificates(126, (MUG, PAIR, TWINS, BARE, LOST)):
+        for claim, paper in all_certificates((MUG, PAIR, TWINS, BARE, LOST)):
             for index in range(len(claim)):
                 self.no(claim[:index] + claim[index + 1:], paper)
                 self.no(claim[:index] + (claim[index],) + claim[index:], paper)
@@ -188,7 +189,7 @@ class Accepts(Judged):
         others = {"known": "free", "free": "known", "alike": "parted", "parted": "alike", "renaming": "no renaming"}
         others.update({"no renaming": "renaming", "runs alike": "runs unlike", "runs unlike": "runs alike"})
         papers = {}
-        told = [(claim, paper) for claim, paper in all_certificates(127, NETS[::3])]
+        told = [(claim, paper) for claim, paper in all_certificates(NETS[::3])]
         for claim, paper in told:
             papers.setdefault(claim[1][:2], []).append(paper)
         for claim, paper in told:
@@ -261,7 +262,7 @@ class Assignments(Judged):
 class KnownAndFree(Judged):
     def test_papers_taken_times_a_polynomial(self):
         source = random.Random(129)
-        for claim, paper in all_certificates(130):
+        for claim, paper in all_certificates():
             many = claim[1][1]
             factor = some_polynomial(source, many, 2)
             if factor == ():
@@ -274,7 +275,7 @@ class KnownAndFree(Judged):
                 self.no(claim, scaled(many, (), paper))
 
     def test_one_polynomial_of_a_paper_changed(self):
-        for claim, paper in all_certificates(131, NETS[::3]):
+        for claim, paper in all_certificates(NETS[::3]):
             if claim[0] == "known":
                 net, many = claim[1], claim[1][1]
                 slopes = knowledge_rows(net)
@@ -359,7 +360,7 @@ class KnownAndFree(Judged):
         self.no(("free", NINE, outflow), (number(4, ONE), (), (), ()))
 
     def test_enough(self):
-        for claim, paper in all_certificates(132):
+        for claim, paper in all_certificates():
             if claim[0] == "enough":
                 _, net, kind, choice, polynomial = claim
                 self.yes(("known", wider(net, kind, choice), polynomial), paper)
@@ -405,7 +406,7 @@ class Rank(Judged):
             self.no(("rank", MUG, 1), paper + (point,))
 
     def test_looks_in_another_order_and_other_looks(self):
-        for net in NETS + [TWELVE, EIGHT]:
+        for net in NETS + (TWELVE, EIGHT):
             (word, _, rank), (looks, fields, point) = certify_rank(net)
             self.yes((word, net, rank), (looks[::-1], fields[::-1], point))
             if rank:
@@ -474,7 +475,7 @@ class Needed(Judged):
         self.no(claim, ((paper[0][0], paper[1][1]), (paper[1][0], paper[0][1]), paper[2]))
 
     def test_a_greater_count_is_not_so(self):
-        for claim, paper in all_certificates(133):
+        for claim, paper in all_certificates():
             if claim[0] == "needed":
                 _, net, kind, count, polynomial = claim
                 left = net[0] - len(net[4 if kind == "seen" else 3])

@@ -2,6 +2,7 @@
 
 import ast
 import builtins
+import functools
 import pathlib
 import unittest
 
@@ -44,6 +45,7 @@ BARRED = (
 GOES_THROUGH = {"list", "tuple", "sorted", "sum", "min", "max", "any", "all", "join"}
 
 
+@functools.cache
 def tree_of(path):
     return ast.parse(path.read_text(encoding="utf-8"))
 
@@ -146,6 +148,7 @@ class Language(unittest.TestCase):
     def test_module_level(self):
         for path in FILES:
             bound = []
+            functions = self.functions_of(path)
             for node in tree_of(path).body:
                 if isinstance(node, (ast.FunctionDef, ast.ClassDef)):
                     bound.append(node.name)
@@ -155,7 +158,7 @@ class Language(unittest.TestCase):
                     self.assertEqual(len(node.targets), 1)
                     self.assertIsInstance(node.targets[0], ast.Name)
                     bound.append(node.targets[0].id)
-                    self.plain(node.value, [name for name in bound if name in self.functions_of(path)])
+                    self.plain(node.value, [name for name in bound if name in functions])
                 else:
                     self.assertIsInstance(node, ast.Expr)
                     self.assertIsInstance(node.value, ast.Constant)
