@@ -3,7 +3,7 @@
 from hiddenrates.choices import is_choice, is_kind, lesser_choices, wider
 from hiddenrates.looks import is_asked, is_look, look_polynomial, look_polynomials
 from hiddenrates.nets import are_alike, is_assignment, is_fillings, is_net, look_in, seen_in
-from hiddenrates.polynomials import is_polynomial, slope, worth
+from hiddenrates.polynomials import all_slopes, is_polynomial, worth
 from hiddenrates.ratios import is_within, reduced_rows
 from hiddenrates.renamings import is_names, is_renaming
 from hiddenrates.wholes import add_product, row_along, scale_of, slopes_along, whole_of, without_noughts
@@ -155,13 +155,8 @@ def _judge_rank(claim, paper):
         return False
     if not all(_is_still(net, field) for field in fields):
         return False
-    slopes = [_slopes_of_look(net, look) for look in looks]
+    slopes = [all_slopes(net[1], look_polynomial(net, look)) for look in looks]
     return _stand_alone(net[1], slopes, point) and _stand_alone(net[1], fields, point)
-
-
-def _slopes_of_look(net, look):
-    """The list of the slopes of the polynomial of LOOK."""
-    return [slope(net[1], look_polynomial(net, look), unknown) for unknown in range(net[1])]
 
 
 def _stand_alone(many, rows, point):

@@ -5,7 +5,7 @@ from itertools import combinations
 from hiddenrates.errors import TooMany
 from hiddenrates.looks import look_polynomials, looks_of, need_asked
 from hiddenrates.nets import need_net
-from hiddenrates.polynomials import degree_of, minus, number, slope
+from hiddenrates.polynomials import all_slopes, degree_of, minus, number
 from hiddenrates.ratios import UNIT
 from hiddenrates.series import change
 from hiddenrates.tables import determinant
@@ -50,7 +50,7 @@ def knowledge(net, polynomial):
     for field in _fields(net[1], rows, columns):
         if change(net[1], field, polynomial) != ():
             return ("free", field)
-    slopes = _slopes(net[1], polynomial)
+    slopes = all_slopes(net[1], polynomial)
     factors = {look: _factor(net[1], rows, columns, index, slopes) for index, look in enumerate(taken)}
     return ("known", _minor(net[1], rows, columns), tuple([factors.get(look, ()) for look in looks_of(net)]))
 
@@ -70,7 +70,7 @@ def _taken_of(net):
         # Where a minor of the taken rows is not nought, those with one more column tell whether ROW hangs together.
         if any(minor_along(row, minors, wider) != {} for wider in _wider(many, columns)):
             taken.append(look)
-            rows.append(_slopes(many, one))
+            rows.append(all_slopes(many, one))
             minors = {each: minor_along(row, minors, each) for each in combinations(range(many), len(taken))}
             columns = min([each for each in minors if minors[each] != {}])
     _need_sum(many, _sum_over(taken))
@@ -96,11 +96,6 @@ def _need_sum(many, total):
     """Refuse a sum of degrees that may lead to more terms than a polynomial in MANY unknowns holds."""
     if total > (MOST_SUM_OF_FOUR if many == 4 else MOST_SUM):
         raise TooMany(total)
-
-
-def _slopes(many, one):
-    """The tuple of the slopes of the polynomial ONE."""
-    return tuple([slope(many, one, unknown) for unknown in range(many)])
 
 
 def _minor(many, rows, columns):

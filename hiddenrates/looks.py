@@ -4,7 +4,7 @@ from math import lcm
 
 from hiddenrates.errors import InvalidLook, InvalidPolynomial
 from hiddenrates.nets import need_net
-from hiddenrates.polynomials import degree_of, is_polynomial, slope
+from hiddenrates.polynomials import all_slopes, degree_of, is_polynomial
 from hiddenrates.ratios import is_whole, is_within
 from hiddenrates.wholes import place_of, row_along, told_from
 
@@ -115,4 +115,4 @@ def slopes_of(net, polynomial):
     """The tuple of the slopes of POLYNOMIAL by each unknown of NET."""
     need_net(net)
     need_asked(net, polynomial)
-    return tuple([slope(net[1], polynomial, unknown) for unknown in range(net[1])])
+    return all_slopes(net[1], polynomial)

@@ -164,6 +164,11 @@ def _term_slope(term, unknown):
     return (lower, multiplied(fraction, (powers[unknown], 1)))
 
 
+def all_slopes(many, one):
+    """The tuple of the slopes of the polynomial ONE by each of MANY unknowns."""
+    return tuple([slope(many, one, unknown) for unknown in range(many)])
+
+
 def worth(many, one, assignment):
     """The fraction that comes of putting ASSIGNMENT in the place of the unknowns of ONE."""
     need_many(many)

@@ -1,7 +1,7 @@
 """Series up to a power of T: their products, worths along rows of them, and the courses of fields."""
 
 from hiddenrates.errors import InvalidField, InvalidNumber, InvalidRow, InvalidSeries
-from hiddenrates.polynomials import is_fraction, is_polynomial, need_fractions, need_many, need_polynomial, slope
+from hiddenrates.polynomials import all_slopes, is_fraction, is_polynomial, need_fractions, need_many, need_polynomial
 from hiddenrates.ratios import NOUGHT, UNIT, added, is_within, multiplied
 from hiddenrates.wholes import sum_of_products
 
@@ -107,7 +107,7 @@ def change(many, field, one):
     need_many(many)
     need_field(many, field)
     need_polynomial(many, one)
-    return sum_of_products(many, field, [slope(many, one, unknown) for unknown in range(many)])
+    return sum_of_products(many, field, all_slopes(many, one))
 
 
 def course(many, field, assignment, degree):
